@@ -39,15 +39,6 @@ func rising(n int) []int {
 	return out
 }
 
-// nested: so many types, each in the next one.
-func nested(n int) api.Spec {
-	nodes := []api.Node{empty}
-	for at := range n - 1 {
-		nodes = append(nodes, api.Node{Kind: api.Many, Kids: []int{at}})
-	}
-	return of(nodes...)
-}
-
 // P11.2
 
 func TestCheck(t *testing.T) {
@@ -65,8 +56,8 @@ func TestCheck(t *testing.T) {
 		{"the same name", api.Spec{Nodes: empties[:2], Defs: []api.Def{{Type: 0}, {Type: 1}}}, api.OK},
 		{"parts in another order", of(empty, empty, choiceOf(1, 0)), api.OK},
 		{"an Else", of(empty, empty, api.Node{Kind: api.Switch, Reg: "n", Cases: []api.Case{{Type: 1}}}), api.OK},
-		{"2048 types", nested(2048), api.OK},
-		{"2049 types", nested(2049), api.ErrLong},
+		{"2048 types", sample.Nested(2048), api.OK},
+		{"2049 types", sample.Nested(2049), api.ErrLong},
 		{"2049 wrong types", of(slices.Repeat([]api.Node{bad}, 2049)...), api.ErrLong},
 		{"64 names", named(empties[:64], rising(64)...), api.OK},
 		{"65 names", named(empties[:65], rising(65)...), api.ErrLong},
@@ -299,44 +290,12 @@ func TestDefAndRoot(t *testing.T) {
 	}
 }
 
-// shuffled: the same specification, its types in another order, each behind its parts.
-func shuffled(m *sample.Maker, s api.Spec) api.Spec {
-	place := make([]int, len(s.Nodes)) // of each type its number then, and one more
-	var out api.Spec
-	for len(out.Nodes) < len(s.Nodes) {
-		at := m.UpTo(len(s.Nodes))
-		n := s.Nodes[at]
-		if place[at] > 0 || slices.ContainsFunc(spec.Kids(n), func(k int) bool { return place[k] == 0 }) {
-			continue
-		}
-		n = spec.Own(n)
-		for i, k := range n.Kids {
-			n.Kids[i] = place[k] - 1
-		}
-		for i, f := range n.Fields {
-			n.Fields[i].Type = place[f.Type] - 1
-		}
-		for i, c := range n.Cases {
-			n.Cases[i].Type = place[c.Type] - 1
-		}
-		if n.Kind == api.Switch && n.Else >= 0 {
-			n.Else = place[n.Else] - 1
-		}
-		out.Nodes = append(out.Nodes, n)
-		place[at] = len(out.Nodes)
-	}
-	for _, d := range s.Defs {
-		out.Defs = append(out.Defs, api.Def{Name: d.Name, Type: place[d.Type] - 1})
-	}
-	return out
-}
-
 func TestSame(t *testing.T) {
 	m := sample.Maker{Seed: 3}
 	moved := 0
 	for seed := range 200 {
 		s := sampled(seed, 3)
-		other := shuffled(&m, s)
+		other := m.Shuffled(s)
 		if !reflect.DeepEqual(s, other) {
 			moved++
 		}
@@ -487,7 +446,7 @@ func front(s api.Spec, at int) []int {
 func TestEach(t *testing.T) {
 	m := sample.Maker{Seed: 4}
 	for seed := range 100 {
-		s := shuffled(&m, sampled(seed, 3))
+		s := m.Shuffled(sampled(seed, 3))
 		for at := range s.Nodes {
 			want := front(s, at)
 			if got, ok := walk(s, at, math.MaxInt); !slices.Equal(got, want) || !ok {
@@ -512,50 +471,15 @@ func TestEach(t *testing.T) {
 			t.Errorf("Each of %d: %v", at, got)
 		}
 	}
-	if got, ok := walk(nested(2048), 2047, math.MaxInt); len(got) != 2048 || !ok {
+	if got, ok := walk(sample.Nested(2048), 2047, math.MaxInt); len(got) != 2048 || !ok {
 		t.Errorf("Each of many: %d, %t", len(got), ok)
 	}
 }
 
 // P1, P2
 
-// wrongs: specifications that may not be: those that hold themselves, those whose parts aren't there, those that hold one very often, and some by chance.
-func wrongs() []api.Spec {
-	often := []api.Node{empty}
-	for at := range 100 {
-		often = append(often, choiceOf(at, at, at))
-	}
-	out := []api.Spec{
-		{}, of(choiceOf(0)), of(choiceOf(1), choiceOf(0, 1, 0)), of(often...), named(often, 100, 100),
-		of(choiceOf(-1, 5, math.MinInt, math.MaxInt)), named([]api.Node{{}}, 0, -1, 5, math.MaxInt), nested(5000),
-	}
-	m := sample.Maker{Seed: 6}
-	some := func() int { return m.UpTo(9) - 2 }
-	for range 300 {
-		var s api.Spec
-		for range m.UpTo(6) {
-			n := api.Node{Kind: some() + m.UpTo(9), Width: some(), Else: some(), Kids: make([]int, m.UpTo(3)), Fields: make([]api.Field, m.UpTo(2)), Cases: make([]api.Case, m.UpTo(2))}
-			for i := range n.Kids {
-				n.Kids[i] = some()
-			}
-			for i := range n.Fields {
-				n.Fields[i].Type = some()
-			}
-			for i := range n.Cases {
-				n.Cases[i].Type = some()
-			}
-			s.Nodes = append(s.Nodes, n)
-		}
-		for range m.UpTo(3) {
-			s.Defs = append(s.Defs, api.Def{Name: m.Name(), Type: some()})
-		}
-		out = append(out, s)
-	}
-	return out
-}
-
 func TestWrongOnesEndToo(t *testing.T) {
-	list := wrongs()
+	list := sample.Wrongs()
 	for i, s := range list {
 		kept := spec.Clone(s)
 		spec.Same(s, s)
