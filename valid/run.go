@@ -187,9 +187,6 @@ func (r *run) choose(n api.Node, t api.Tree) (filled, bool) {
 
 // choice: one of some types, which the tree tells.
 func (r *run) choice(n api.Node, t api.Tree) (filled, bool) {
-	if t.Num >= uint64(len(n.Kids)) {
-		return r.fail(api.ErrValue)
-	}
 	out, ok := r.parts(n.Kids[t.Num], t)
 	out.tree.Num = t.Num
 	return out, ok
@@ -216,7 +213,7 @@ func (r *run) link(n api.Node, t api.Tree, last bool) (filled, bool) {
 	if e := shape(n, t); e != api.OK {
 		return r.fail(e)
 	}
-	if t.Num < uint64(len(n.Last)) && n.Last[t.Num] != last {
+	if n.Last[t.Num] != last {
 		return r.fail(api.ErrValue)
 	}
 	return r.choice(n, t)

@@ -5,10 +5,10 @@ import (
 	"guipure/spec"
 )
 
-// shape: has a tree what one of a type has, and nothing else? What its number, its bytes, and how many they are tell, isn't asked.
+// shape: has a tree what one of a type has, and nothing else? Whether a number is in its range, what bytes are, and how many there are, isn't asked.
 func shape(n api.Node, t api.Tree) api.Errno {
 	switch {
-	case t.Num != 0 && !spec.Number(n) && n.Kind != api.Choice,
+	case !told(n, t.Num),
 		len(t.Data) > 0 && n.Kind != api.Token && n.Kind != api.Blob,
 		!parted(n, len(t.Kids)):
 		return api.ErrShape
@@ -16,6 +16,14 @@ func shape(n api.Node, t api.Tree) api.Errno {
 		return api.ErrBlank
 	}
 	return api.OK
+}
+
+// told: may a tree of a type have such a number? Of a Choice it tells one of its types, and so belongs to the shape.
+func told(n api.Node, x uint64) bool {
+	if n.Kind == api.Choice {
+		return x < uint64(len(n.Kids))
+	}
+	return x == 0 || spec.Number(n)
 }
 
 // parted: may a tree of a type have so many parts?

@@ -275,17 +275,25 @@ func TestAlternatives(t *testing.T) {
 		{"", "0(7,0(65536))", api.ErrValue, 3},
 		{"", "0(0,0(1))", api.ErrShape, 3},
 		{"main = { n: u8; s: switch n % 3 { 0: empty; 2: u16be; }; };", "0(7,0(0))", api.ErrCase, 2},
-		{"main = oneof { u8 0..9 | /x[0-9];/ };", "2(9)", api.ErrValue, 0},
-		{"", "18446744073709551615(9)", api.ErrValue, 0},
+		{"main = oneof { u8 0..9 | /x[0-9];/ };", "2(9)", api.ErrShape, 0}, // there is no such one
+		{"", "2(10)", api.ErrShape, 0},
+		{"", "18446744073709551615(9)", api.ErrShape, 0},
+		{"", "2:00(9)", api.ErrShape, 0},
 		{"", "2", api.ErrShape, 0},
 		{"", "0", api.ErrShape, 0},
 		{"", "0(9,9)", api.ErrShape, 0},
 		{"", "0:00(9)", api.ErrShape, 0},
 		{"", "_0(9)", api.ErrBlank, 0},
-		{"", "_2(9)", api.ErrBlank, 0},
+		{"", "_2(9)", api.ErrShape, 0}, // ahead of that it is blank
+		{"", "_1(9)", api.ErrBlank, 0},
 		{"", "0(10)", api.ErrValue, 1},
 		{"", "1(9)", api.ErrShape, 1},
 		{"", "1(0:783b)", api.ErrToken, 1},
+		{"main = oneof { u8 };", "1(9)", api.ErrShape, 0},
+		{"", "0(256)", api.ErrValue, 1},
+		{"main = { a: u8; o: oneof { u8 0..3 | /z/ }; };", "0(9,2(0))", api.ErrShape, 2},
+		{"", "0(256,2(0))", api.ErrValue, 1}, // from the front on
+		{"main = many oneof { oneof { u8 0..3 | /z/ } | u8 4..5 };", "0(0(0(1)),0(2(1)),0(3(1)))", api.ErrShape, 5},
 		{"main = chain { u8 0..9 | last /x/ | last u8 10..20 };", "0", api.ErrShape, 0},
 		{"", "1(2(10))", api.ErrShape, 0},
 		{"", "0:00(2(10))", api.ErrShape, 0},
@@ -293,8 +301,8 @@ func TestAlternatives(t *testing.T) {
 		{"", "0(0(1))", api.ErrValue, 1},                  // none is the last
 		{"", "0(0(1),2(10),0(1))", api.ErrValue, 3},       // it is behind the last
 		{"", "0(2(10),2(10))", api.ErrValue, 1},           // likewise
-		{"", "0(0(1),3(10))", api.ErrValue, 3},            // there is no such one
-		{"", "0(3(1),2(10))", api.ErrValue, 1},            // likewise
+		{"", "0(0(1),3(10))", api.ErrShape, 3},            // there is no such one
+		{"", "0(3(1),2(10))", api.ErrShape, 1},            // likewise
 		{"", "0(0(10),0(1))", api.ErrValue, 2},            // from the front on
 		{"", "0(0(1),2)", api.ErrShape, 3},                // it hasn't one part
 		{"", "0(0(1),2(10,10))", api.ErrShape, 3},         // likewise
