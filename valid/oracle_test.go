@@ -204,9 +204,7 @@ func (o *oracle) own(x *node) []api.Errno {
 	tell(number && (o.number(x) < n.Min || o.number(x) > n.Max), api.ErrValue)
 	if n.Kind == api.Choice {
 		last := x.link && x.i == len(x.up.tree.Kids)-1
-		one := t.Num < uint64(len(n.Kids))
-		tell(!one, api.ErrShape)
-		tell(one && x.link && n.Last[t.Num] != last, api.ErrValue)
+		tell(t.Num >= uint64(len(n.Kids)) || x.link && n.Last[t.Num] != last, api.ErrShape)
 	}
 	if n.Kind == api.Token {
 		tell(!o.words[n.Text].Match(t.Data), api.ErrToken)

@@ -207,14 +207,15 @@ func (r *run) chain(n api.Node, t api.Tree) (filled, bool) {
 	return out, true
 }
 
-// link: one of these: the last one, or another one.
+// link: one of these: the last one, or another one. Which of both it is belongs to its shape.
 func (r *run) link(n api.Node, t api.Tree, last bool) (filled, bool) {
 	n.Kind = api.Choice
-	if e := shape(n, t); e != api.OK {
-		return r.fail(e)
+	e := shape(n, t)
+	if e != api.ErrShape && n.Last[t.Num] != last {
+		e = api.ErrShape
 	}
-	if n.Last[t.Num] != last {
-		return r.fail(api.ErrValue)
+	if e != api.OK {
+		return r.fail(e)
 	}
 	return r.choice(n, t)
 }

@@ -298,9 +298,14 @@ func TestAlternatives(t *testing.T) {
 		{"", "1(2(10))", api.ErrShape, 0},
 		{"", "0:00(2(10))", api.ErrShape, 0},
 		{"", "_0(2(10))", api.ErrBlank, 0},
-		{"", "0(0(1))", api.ErrValue, 1},                  // none is the last
-		{"", "0(0(1),2(10),0(1))", api.ErrValue, 3},       // it is behind the last
-		{"", "0(2(10),2(10))", api.ErrValue, 1},           // likewise
+		{"", "0(0(1))", api.ErrShape, 1},                  // none is the last
+		{"", "0(0(1),0(2))", api.ErrShape, 3},             // likewise
+		{"", "0(0(10))", api.ErrShape, 1},                 // ahead of its own
+		{"", "0(_0(1))", api.ErrShape, 1},                 // ahead of that it is blank
+		{"", "0(0(1),2(10),0(1))", api.ErrShape, 3},       // it is behind the last
+		{"", "0(2(10),2(10))", api.ErrShape, 1},           // likewise
+		{"", "0(_2(10),2(10))", api.ErrShape, 1},          // ahead of that it is blank
+		{"", "0(_0(1),2(10))", api.ErrBlank, 1},           // it may stand there
 		{"", "0(0(1),3(10))", api.ErrShape, 3},            // there is no such one
 		{"", "0(3(1),2(10))", api.ErrShape, 1},            // likewise
 		{"", "0(0(10),0(1))", api.ErrValue, 2},            // from the front on
@@ -310,7 +315,14 @@ func TestAlternatives(t *testing.T) {
 		{"", "0(0(1),_2(10))", api.ErrBlank, 3},           // it is blank
 		{"", "0(0(1),0(2),1(0:79))", api.ErrToken, 6},     // not of its type
 		{"", "0(0(1),0(10),1(0:79))", api.ErrValue, 4},    // likewise
-		{"", "0(0(1),2(21),2(10),0(1))", api.ErrValue, 3}, // ahead of its own
+		{"", "0(0(1),2(21),2(10),0(1))", api.ErrShape, 3}, // ahead of its own
+		{"", "0(0(1),0(10),0(1))", api.ErrValue, 4},       // from the front on
+		{"main = { a: u8; h: chain { u8 0..9 | last u8 10..20 }; };", "0(5,0(0(7),0(7)))", api.ErrShape, 5},
+		{"", "0(5,0(0(7)))", api.ErrShape, 3},
+		{"", "0(5,0(1(11),1(11)))", api.ErrShape, 3},
+		{"", "0(5,0(0(7),2(11)))", api.ErrShape, 5},
+		{"", "0(5,0(0(10),0(7)))", api.ErrValue, 4},
+		{"main = many chain { last u8 0..9 };", "0(0(0(1)),0(0(2),0(3)))", api.ErrShape, 5},
 	})
 }
 
