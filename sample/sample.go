@@ -1,4 +1,4 @@
-// Package sample makes what the tests of several layers try: expressions, specifications and trees of all sorts, and rows of bytes.
+// Package sample makes what the tests of several layers try: expressions, specifications, trees and programs of all sorts, and rows of bytes.
 package sample
 
 import (
@@ -11,7 +11,7 @@ import (
 // letters are the bytes of rows: enough to tell the sets of expressions apart mostly.
 const letters = "abc\xff"
 
-// Maker makes expressions, specifications, trees, and numbers that look like chance, as its seed tells.
+// Maker makes expressions, specifications, trees, programs, and numbers that look like chance, as its seed tells.
 type Maker struct{ Seed uint32 }
 
 // UpTo: a number from 0 to less than n.
