@@ -74,7 +74,7 @@ func (p *planter) kind(at int) (api.Tree, int) {
 	case api.Record:
 		return p.record(n)
 	case api.Switch:
-		return p.all(p.way(n), 1)
+		return p.all(way(n, p.numbers[n.Reg]), 1)
 	case api.Choice:
 		return p.choice(n, p.UpTo(len(n.Kids)))
 	case api.Chain:
@@ -172,9 +172,8 @@ func (p *planter) within(kind int, size uint64) (api.Tree, int) {
 	}
 }
 
-// way: the type to which a Switch leads; any one, if it leads to none.
-func (p *planter) way(n api.Node) int {
-	x := p.numbers[n.Reg]
+// way: the type to which a Switch leads by a number; any one, if it leads to none.
+func way(n api.Node, x uint64) int {
 	if n.Mod != 0 {
 		x %= n.Mod
 	}
