@@ -590,22 +590,9 @@ func TestMachinesAreTheirOwn(t *testing.T) {
 	if f != (api.Fault{}) || !tree.Same(got, want) {
 		t.Fatalf("%s, %v", tree.Text(got), f)
 	}
-	spoil(got)
+	sample.Spoil(got)
 	if got, f := two.End(); f != (api.Fault{}) || !tree.Same(got, want) {
 		t.Errorf("%s, %v", tree.Text(got), f)
-	}
-}
-
-// spoil changes all memory of a tree, its spare room too.
-func spoil(t api.Tree) {
-	b := t.Data[:cap(t.Data)]
-	for i := range b {
-		b[i] = 0xee
-	}
-	all := t.Kids[:cap(t.Kids)]
-	for i := range all {
-		spoil(all[i])
-		all[i] = api.Tree{Num: 0xeeee}
 	}
 }
 

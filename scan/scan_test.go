@@ -479,7 +479,7 @@ func TestAnswersAreTheirOwn(t *testing.T) {
 	first, _, _ := scan.Scan(r, b, sample.Ample())
 	again, _, _ := scan.Scan(r, b, sample.Ample())
 	kept := bytes.Clone(b)
-	spoil(first)
+	sample.Spoil(first)
 	if !bytes.Equal(b, kept) || tree.Text(again) != want {
 		t.Errorf("%x, %s share memory with an answer", b, tree.Text(again))
 	}
@@ -493,19 +493,6 @@ func TestAnswersAreTheirOwn(t *testing.T) {
 	_ = append(got.Kids[1].Kids[:2:cap(got.Kids[1].Kids)], tree.Num(0xee))
 	if tree.Text(got) != want {
 		t.Errorf("parts of an answer share memory: %s", tree.Text(got))
-	}
-}
-
-// spoil changes all memory of a tree, its spare room too.
-func spoil(t api.Tree) {
-	b := t.Data[:cap(t.Data)]
-	for i := range b {
-		b[i] = 0xee
-	}
-	all := t.Kids[:cap(t.Kids)]
-	for i := range all {
-		spoil(all[i])
-		all[i] = api.Tree{Num: 0xeeee}
 	}
 }
 

@@ -8,6 +8,7 @@ import (
 	"guipure/leb"
 	"guipure/octet"
 	"guipure/regex"
+	"guipure/sample"
 	"guipure/scope"
 	"guipure/spec"
 )
@@ -244,18 +245,9 @@ func (o *oracle) tell(code api.Errno, place, way []int) {
 	o.list = append(o.list, told{when, slices.Clone(way), code})
 }
 
-// ways: those to all parts of a tree, from the front on.
-func ways(t api.Tree, way []int) [][]int {
-	out := [][]int{slices.Clone(way)}
-	for i, kid := range t.Kids {
-		out = append(out, ways(kid, append(way, i))...)
-	}
-	return out
-}
-
 // fill: what layer 18 tells of a tree.
 func (o *oracle) fill(t api.Tree) (api.Tree, int, api.Fault) {
-	all := ways(t, nil)
+	all := sample.Ways(t)
 	if slices.ContainsFunc(all, func(way []int) bool { return len(way) > 200 }) {
 		return api.Tree{}, 0, api.Fault{Code: api.ErrShape}
 	}

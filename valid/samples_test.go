@@ -23,47 +23,6 @@ func read(t *testing.T, text string) api.Spec {
 	return s
 }
 
-// spoilt: a tree of which a part is another one.
-func spoilt(m *sample.Maker, t api.Tree) api.Tree {
-	all := ways(t, nil)
-	way := all[m.UpTo(len(all))]
-	part, _ := tree.At(t, way...)
-	other, _ := tree.At(t, all[m.UpTo(len(all))]...)
-	switch m.UpTo(12) {
-	case 0:
-		part.Num++
-	case 1:
-		part.Num = m.Number(1<<64 - 1)
-	case 2:
-		part.Num = 0
-	case 3:
-		part.Blank = !part.Blank
-	case 4:
-		part.Data = append(part.Data, byte(m.UpTo(256)))
-	case 5:
-		part.Data = part.Data[:m.UpTo(len(part.Data)+1)]
-	case 6:
-		if len(part.Data) > 0 {
-			part.Data[m.UpTo(len(part.Data))]++
-		}
-	case 7:
-		part.Kids = append(part.Kids, other)
-	case 8:
-		part.Kids = part.Kids[:m.UpTo(len(part.Kids)+1)]
-	case 9:
-		if len(part.Kids) > 0 {
-			i, j := m.UpTo(len(part.Kids)), m.UpTo(len(part.Kids))
-			part.Kids[i], part.Kids[j] = part.Kids[j], part.Kids[i]
-		}
-	case 10:
-		part = other
-	case 11:
-		part = tree.Blank()
-	}
-	out, _ := tree.Put(t, part, way...)
-	return out
-}
-
 // linked: is a type one whose trees tell of each other?
 func linked(n api.Node) bool {
 	return n.Kind == api.Switch || slices.ContainsFunc(n.Fields, func(f api.Field) bool { return f.Derive != api.Plain })
@@ -102,7 +61,7 @@ func TestFillOfSamples(t *testing.T) {
 				continue
 			}
 			for range max(0, m.UpTo(5)-2) {
-				x = spoilt(m, x)
+				x = m.Spoilt(x)
 			}
 			met[wantFill(t, maker, o, x).Code]++
 		}
@@ -146,7 +105,7 @@ func TestFillOfTexts(t *testing.T) {
 		met := map[api.Fault]int{}
 		for _, x := range m.Planted(s, 4000) {
 			for range max(0, m.UpTo(5)-1) {
-				x = spoilt(m, x)
+				x = m.Spoilt(x)
 			}
 			met[wantFill(t, maker, o, x)]++
 		}

@@ -643,27 +643,14 @@ func TestMakersAreTheirOwn(t *testing.T) {
 	if f != (api.Fault{}) || size != 8 || tree.Text(got) != want || tree.Text(x) != kept {
 		t.Fatalf("%s, %d, %v", tree.Text(got), size, f)
 	}
-	spoil(got)
+	sample.Spoil(got)
 	if tree.Text(x) != kept || x.Kids[:6][5].Num != 99 || x.Kids[1].Data[:4][3] != 9 {
 		t.Errorf("%s shares memory with its answer", tree.Text(x))
 	}
 	again, _, _ := m.Fill(x)
-	spoil(x)
+	sample.Spoil(x)
 	if tree.Text(again) != want {
 		t.Errorf("%s shares memory with what was handed in", tree.Text(again))
-	}
-}
-
-// spoil changes all memory of a tree, its spare room too.
-func spoil(t api.Tree) {
-	b := t.Data[:cap(t.Data)]
-	for i := range b {
-		b[i] = 0xee
-	}
-	all := t.Kids[:cap(t.Kids)]
-	for i := range all {
-		spoil(all[i])
-		all[i] = api.Tree{Num: 0xeeee}
 	}
 }
 
@@ -675,7 +662,7 @@ func TestPartsThatShareMemory(t *testing.T) {
 	if f != (api.Fault{}) || size != 6 || tree.Text(got) != "0(0(2,0(0(1,2))),0(2,0(0(1,2))))" {
 		t.Errorf("%s, %d, %v", tree.Text(got), size, f)
 	}
-	spoil(got.Kids[0])
+	sample.Spoil(got.Kids[0])
 	if tree.Text(got.Kids[1]) != "0(2,0(0(1,2)))" {
 		t.Errorf("two parts of an answer share memory: %s", tree.Text(got))
 	}
