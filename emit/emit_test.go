@@ -76,9 +76,7 @@ func wantWrong(t *testing.T, list []wrong) {
 // P24.1
 
 func TestNew(t *testing.T) {
-	for _, text := range []string{
-		"main = many bytes[0];", "main = oneof { u8 0..9 | varint 9..9 };", "main = { n: u8 = size(d); d: bytes[3]; };", "main = a;", "main = /(/;", "main = { a: u8; a: u8; };", "main = { c: u32be = crc(d..d); d: u8; };",
-	} {
+	for _, text := range sample.Refused() {
 		s := read(t, text)
 		_, want := valid.New(s)
 		if w, f := emit.New(s); w != nil || f != want || f.Code == api.OK {

@@ -2,7 +2,6 @@ package feed_test
 
 import (
 	"bytes"
-	"math"
 	"reflect"
 	"slices"
 	"strconv"
@@ -555,18 +554,13 @@ func TestHeldOfDeepOnes(t *testing.T) {
 // P1, P2
 
 func TestRawCaps(t *testing.T) {
-	numbers := []int{math.MinInt, -1, 0, 1, 2, 4, math.MaxInt}
 	m := &sample.Maker{Seed: 53}
 	for _, text := range sample.Texts() {
 		s := read(t, text)
 		r := program(t, s)
 		for _, p := range m.Pairs(s, 2) {
-			for _, input := range numbers {
-				for _, deep := range numbers {
-					for _, tokens := range numbers {
-						wantFeed(t, m, s, r, p.Bytes, api.Caps{Input: input, Depth: deep, Tokens: tokens})
-					}
-				}
+			for _, caps := range sample.AnyCaps() {
+				wantFeed(t, m, s, r, p.Bytes, caps)
 			}
 		}
 	}

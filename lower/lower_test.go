@@ -99,9 +99,7 @@ func want(t *testing.T, text string, steps ...string) *lower.Result {
 // P20.1
 
 func TestRefused(t *testing.T) {
-	for _, text := range []string{
-		"main = many bytes[0];", "main = oneof { u8 0..9 | varint 9..9 };", "main = { n: u8 = size(d); d: bytes[3]; };", "main = a;", "main = /(/;", "main = { a: u8; a: u8; };", "main = bytes[n];", "a = chain { u8 }; main = u8;",
-	} {
+	for _, text := range sample.Refused() {
 		s := read(t, text)
 		want := first.Check(s)
 		if r, f := lower.Make(s); r != nil || f != want || f.Code == api.OK {

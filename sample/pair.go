@@ -1,6 +1,7 @@
 package sample
 
 import (
+	"math"
 	"slices"
 
 	"guipure/api"
@@ -46,6 +47,20 @@ func (m *Maker) Caps(p Pair) api.Caps {
 		out.Tokens = parts + 1 - m.UpTo(4)
 	case 3:
 		out = api.Caps{Input: m.UpTo(len(p.Bytes) + 2), Depth: 1 + m.UpTo(deep+2), Tokens: 1 + m.UpTo(parts+2)}
+	}
+	return out
+}
+
+// AnyCaps: caps whose numbers are edges, below 0 too, and small ones.
+func AnyCaps() []api.Caps {
+	numbers := []int{math.MinInt, -1, 0, 1, 2, 3, 5, math.MaxInt}
+	var out []api.Caps
+	for _, input := range numbers {
+		for _, deep := range numbers {
+			for _, tokens := range numbers {
+				out = append(out, api.Caps{Input: input, Depth: deep, Tokens: tokens})
+			}
+		}
 	}
 	return out
 }

@@ -24,6 +24,16 @@ func Nested(many int) api.Spec {
 	return whole(nodes, many-1)
 }
 
+// Refused: specifications, as texts, that aren't accepted: by their names, their numbers, or what they begin with.
+func Refused() []string {
+	return []string{
+		"main = a;", "main = { a: u8; a: u8; };",
+		"main = bytes[n];", "main = { x: u8; y: u8; z: bytes[n]; };", "main = { n: u8 = size(d); d: bytes[3]; };", "main = { c: u32be = crc(d..d); d: u8; };",
+		"main = /(/;", "main = /a*/;", "a = /(/; main = u8;", "main = many bytes[0];", "main = { m: many u8; x: u8; };",
+		"main = oneof { u8 0..9 | varint 9..9 };", "main = chain { u8 };", "a = chain { u8 }; main = u8;",
+	}
+}
+
 // Wrongs: specifications that may not be, mostly: those that hold themselves, those whose parts aren't there, those that hold one very often, those whose names use one another in a ring, and some by chance.
 func Wrongs() []api.Spec {
 	choice := func(kids ...int) api.Node { return api.Node{Kind: api.Choice, Kids: kids} }

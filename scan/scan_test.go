@@ -545,18 +545,13 @@ func TestScanByMany(t *testing.T) {
 
 // Caps of all sorts.
 func TestRawCaps(t *testing.T) {
-	numbers := []int{math.MinInt, -1, 0, 1, 2, 3, 5, math.MaxInt}
 	for _, text := range sample.Texts() {
 		s := read(t, text)
 		r, o := program(t, s), judge(s)
 		m := &sample.Maker{Seed: 45}
 		for _, p := range append(m.Pairs(s, 3), sample.Pair{}, sample.Pair{Bytes: []byte{}}) {
-			for _, input := range numbers {
-				for _, deep := range numbers {
-					for _, tokens := range numbers {
-						wantScan(t, r, o, p.Bytes, api.Caps{Input: input, Depth: deep, Tokens: tokens})
-					}
-				}
+			for _, caps := range sample.AnyCaps() {
+				wantScan(t, r, o, p.Bytes, caps)
 			}
 		}
 	}

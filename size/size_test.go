@@ -238,9 +238,7 @@ func TestEachType(t *testing.T) {
 }
 
 func TestFaults(t *testing.T) {
-	for _, text := range []string{
-		"main = many bytes[0];", "main = oneof { u8 0..9 | varint 9..9 };", "main = { n: u8 = size(d); d: bytes[3]; };", "main = a;", "main = /(/;", "main = /a*/;", "main = { a: u8; a: u8; };", "main = { m: many u8; x: u8; };", "main = chain { u8 };",
-	} {
+	for _, text := range sample.Refused() {
 		s := read(t, text)
 		want := first.Check(s)
 		if got, f := size.Of(s); got != nil || f != want || f.Code == api.OK {

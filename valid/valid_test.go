@@ -94,9 +94,7 @@ func wantWrong(t *testing.T, list []wrong) {
 // P18.1
 
 func TestNew(t *testing.T) {
-	for _, text := range []string{
-		"main = many bytes[0];", "main = oneof { u8 0..9 | varint 9..9 };", "main = { n: u8 = size(d); d: bytes[3]; };", "main = a;", "main = /(/;", "main = { a: u8; a: u8; };",
-	} {
+	for _, text := range sample.Refused() {
 		s := read(t, text)
 		want := first.Check(s)
 		if m, f := valid.New(s); m != nil || f != want || f.Code == api.OK {
