@@ -1,4 +1,4 @@
-// Package sample makes what the tests of several layers try: expressions, specifications, trees and programs of all sorts, bytes of trees, and rows of bytes.
+// Package sample makes what the tests of several layers try: expressions, specifications, trees and programs of all sorts, bytes of trees, and rows of bytes; and it tries formats.
 package sample
 
 import (
