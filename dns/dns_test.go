@@ -3,6 +3,7 @@ package dns_test
 import (
 	"bytes"
 	"encoding/hex"
+	"fmt"
 	"math"
 	"slices"
 	"strings"
@@ -34,8 +35,11 @@ func trial(t *testing.T) sample.Format[dns.Message] {
 	if f.Code != api.OK {
 		t.Fatal(f)
 	}
-	return sample.Format[dns.Message]{Read: dns.New().Read, Program: r, Cut: cut, Same: same}
+	return sample.Format[dns.Message]{Read: dns.New().Read, Program: r, Cut: cut, Same: same, Text: text}
 }
+
+// text: a message as a text.
+func text(m dns.Message) string { return fmt.Sprint(m) }
 
 // wantRead tells what is wrong with what is read of bytes.
 func wantRead(t *testing.T, x sample.Format[dns.Message], b []byte, caps api.Caps) api.Fault {

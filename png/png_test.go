@@ -2,6 +2,7 @@ package png_test
 
 import (
 	"bytes"
+	"fmt"
 	lib "image/png"
 	"math"
 	"reflect"
@@ -33,8 +34,11 @@ func trial(t *testing.T) sample.Format[[]png.Chunk] {
 	if f.Code != api.OK {
 		t.Fatal(f)
 	}
-	return sample.Format[[]png.Chunk]{Read: png.New().Read, Program: r, Cut: cut, Same: same}
+	return sample.Format[[]png.Chunk]{Read: png.New().Read, Program: r, Cut: cut, Same: same, Text: text}
 }
+
+// text: chunks as a text.
+func text(list []png.Chunk) string { return fmt.Sprint(list) }
 
 // wantRead tells what is wrong with what is read of bytes.
 func wantRead(t *testing.T, x sample.Format[[]png.Chunk], b []byte, caps api.Caps) api.Fault {

@@ -3,6 +3,7 @@ package proto_test
 import (
 	"bytes"
 	"encoding/hex"
+	"fmt"
 	"math"
 	"slices"
 	"strings"
@@ -32,8 +33,11 @@ func trial(t *testing.T) sample.Format[[]proto.Field] {
 	if f.Code != api.OK {
 		t.Fatal(f)
 	}
-	return sample.Format[[]proto.Field]{Read: proto.New().Read, Program: r, Cut: cut, Same: same}
+	return sample.Format[[]proto.Field]{Read: proto.New().Read, Program: r, Cut: cut, Same: same, Text: text}
 }
+
+// text: records as a text.
+func text(list []proto.Field) string { return fmt.Sprint(list) }
 
 // wantRead tells what is wrong with what is read of bytes.
 func wantRead(t *testing.T, x sample.Format[[]proto.Field], b []byte, caps api.Caps) api.Fault {

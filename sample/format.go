@@ -2,8 +2,8 @@ package sample
 
 import (
 	"bytes"
-	"fmt"
 	"slices"
+	"strconv"
 
 	"guipure/api"
 	"guipure/lower"
@@ -13,12 +13,13 @@ import (
 	"guipure/spec"
 )
 
-// Format is a format that is tried: what reads it, by which program that must be done, and what tells by itself what bytes are (false: they aren't of the format).
+// Format is a format that is tried: what reads it, by which program that must be done, what tells by itself what bytes are (false: they aren't of the format), and how that is told.
 type Format[T any] struct {
 	Read    func(b []byte, caps api.Caps) (T, api.Fault)
 	Program *lower.Result
 	Cut     func(b []byte) (T, bool)
 	Same    func(a, b T) bool
+	Text    func(x T) string
 }
 
 // Try: bytes are read: the fault, and what is wrong with what was answered; empty: nothing.
@@ -33,13 +34,13 @@ func (x Format[T]) Try(b []byte, caps api.Caps) (api.Fault, string) {
 	resource := f.Code == api.ErrInput || f.Code == api.ErrDepth || f.Code == api.ErrTokens
 	switch {
 	case f != want:
-		return f, fmt.Sprintf("%x, %+v: %v, want %v", b, caps, f, want)
+		return f, asked(b, caps) + faultText(f) + ", want " + faultText(want)
 	case !resource && ok != (f.Code == api.OK):
-		return f, fmt.Sprintf("%x, %+v: %v, but %v", b, caps, f, ok)
+		return f, asked(b, caps) + faultText(f) + ", but " + strconv.FormatBool(ok)
 	case !x.Same(got, list):
-		return f, fmt.Sprintf("%x, %+v: %v, want %v", b, caps, got, list)
+		return f, asked(b, caps) + x.Text(got) + ", want " + x.Text(list)
 	case !bytes.Equal(b, was):
-		return f, fmt.Sprintf("%x has become %x", was, b)
+		return f, hex(was) + " has become " + hex(b)
 	}
 	return f, ""
 }
@@ -48,7 +49,7 @@ func (x Format[T]) Try(b []byte, caps api.Caps) (api.Fault, string) {
 func Source(text string, answer func() api.Spec) string {
 	s, f := parse.Parse(text)
 	if f.Code != api.OK || show.Text(s) != text {
-		return fmt.Sprintf("%v, %s", f, show.Text(s))
+		return faultText(f) + ", " + show.Text(s)
 	}
 	for range 2 {
 		x := answer()
